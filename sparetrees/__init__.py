@@ -1,0 +1,1 @@
+"""Sparetrees: one stream heard whole by every place, whatever links are lost."""

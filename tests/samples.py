@@ -1,0 +1,86 @@
+"""Nets and things for the tests, and a going through all sides apart from the package."""
+
+import random
+
+from sparetrees.errors import NoNet
+from sparetrees.nets import Net
+
+
+def deep(make, levels):
+    thing = ()
+    for _ in range(levels):
+        thing = make(thing)
+    return thing
+
+
+def odd_things():
+    """Things of many kinds, none of which is a Net, a number, a lot of links or a side."""
+    return [
+        None, True, False, -1, -(10 ** 60) + 1, 10 ** 60 - 1, "", "0", "many", "\n", b"", b"\x00",
+        bytearray(b"\x01"), memoryview(b"\x01"), [], [0], [1], [0, 1], [[0]], {}, {0: 1}, {1: True},
+        {(): []}, range(0), range(1, 2), slice(0, 1), Ellipsis, NotImplemented, int, tuple, Net, len,
+        odd_things, lambda: 0, object(), iter((1,)), (x for x in (1,)), {0: 1}.keys(), {0: 1}.values(),
+        {0: 1}.items(), zip((1,), (2,)), enumerate((1,)), map(len, ((),)), reversed((1,)), NoNet(),
+        property(len), "x".join, (True,), (False,), (1, True), (False, 1), (-1,), (0, -1), (1, 0), (1, 1),
+        (0, 0), (2, 1), (10 ** 60 - 1,), (1, 10 ** 60 - 1), (60,), ("0",), ("",), (b"\x01",), (None,),
+        ((),), ((0,),), ((1, 2),), ([1],), ({},), (Ellipsis,), (NotImplemented,), (Net,),
+        (1, None), (1, "2"), (1, (2,)), (1, [2]), (Net(2, 0, ()),),
+        deep(lambda inner: (inner,), 39), deep(lambda inner: [inner], 39),
+        deep(lambda inner: {0: inner}, 39), deep(lambda inner: (1, inner), 39),
+        deep(lambda inner: (inner, inner), 14), (0,) * 59000, [0] * 59000, tuple(range(59000)),
+        ((),) * 59000, "x" * 20000, {number: number for number in range(29000)},
+    ]
+
+
+def going_through(net):
+    """All sides, fewest first, found apart from the package."""
+    found = []
+    for mask in range(1, 2 ** net.many):
+        side = tuple(place for place in range(net.many) if mask >> place & 1)
+        if net.root not in side:
+            found.append(side)
+    return sorted(found, key=lambda side: (len(side), side))
+
+
+def enters(net, link, places):
+    start, end = net.links[link]
+    return start not in places and end in places
+
+
+def count_of(net, lot, places):
+    return sum(1 for link in lot if enters(net, link, places))
+
+
+def random_net(chance, many, links):
+    root = chance.randrange(many)
+    pairs = []
+    while len(pairs) < links:
+        pair = (chance.randrange(many), chance.randrange(many))
+        if pair[0] != pair[1]:
+            pairs.append(pair)
+    return Net(many, root, tuple(pairs))
+
+
+def random_lot(chance, net):
+    share = chance.choice([0, 30, 60, 90, 100])
+    return tuple(link for link in range(len(net.links)) if chance.randrange(100) < share)
+
+
+def nets_and_lots():
+    """Pairs of a net and a lot of its links, the same in every run."""
+    chance = random.Random(20)
+    pairs = []
+    for many in range(2, 11):
+        for links in (0, 1, many, 2 * many, 4 * many, 60):
+            net = random_net(chance, many, links)
+            pairs.append((net, tuple(range(links))))
+            pairs.append((net, random_lot(chance, net)))
+    for _ in range(60):
+        net = random_net(chance, chance.randrange(3, 7), chance.randrange(4, 25))
+        pairs.append((net, random_lot(chance, net)))
+    return pairs
+
+
+def line_net():
+    """Root 0; 0 -> 1 twice, 1 -> 2 twice, 2 -> 3, and links back."""
+    return Net(4, 0, ((0, 1), (0, 1), (1, 2), (1, 2), (2, 3), (3, 0), (2, 1), (3, 1)))

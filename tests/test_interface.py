@@ -1,0 +1,32 @@
+"""Each name of the interface stands, with its arguments, in the file under which it is listed."""
+
+import importlib
+import inspect
+import unittest
+
+INTERFACE = {
+    "nets": ["Net(many, root, links)", "entering(net, lot, side)", "every_link(net)", "supply(net, lot)",
+             "bar(net, lot, many)", "is_bar(net, lot, many, thing)", "tight_sides(net, lot)"],
+    "ways": ["ways(net, lot, place)", "are_ways(net, lot, place, thing)", "nearest_side(net, lot, place)",
+             "farthest_side(net, lot, place)"],
+}
+
+
+class InterfaceTest(unittest.TestCase):
+
+    def test_names_and_arguments(self):
+        for file, lines in INTERFACE.items():
+            module = importlib.import_module(f"sparetrees.{file}")
+            for line in lines:
+                name = line.split("(")[0]
+                thing = getattr(module, name)
+                self.assertEqual(thing.__module__, f"sparetrees.{file}")
+                self.assertEqual(name + str(inspect.signature(thing)), line)
+
+    def test_a_net_has_its_own_equality(self):
+        module = importlib.import_module("sparetrees.nets")
+        self.assertIn("__eq__", vars(module.Net))
+
+
+if __name__ == "__main__":
+    unittest.main()
