@@ -1,6 +1,6 @@
 """What things are. Each of these may be asked of any object."""
 
-from sparetrees.errors import NoNumber
+from sparetrees.errors import NoNumber, NoPlace
 
 
 def is_integer(thing):
@@ -39,3 +39,20 @@ def is_unlike_pair(thing, bound):
     if not is_between(first, 0, bound - 1) or not is_between(second, 0, bound - 1):
         return False
     return first != second
+
+
+def need_place(whole, thing):
+    """Raise NoPlace unless a thing is a place of a Net or a Web."""
+    if not is_between(thing, 0, whole.many - 1):
+        raise NoPlace()
+
+
+def share_none(lots):
+    """Whether no two of some lots have an item in common."""
+    items = [item for lot in lots for item in lot]
+    return len(set(items)) == len(items)
+
+
+def is_within(few, lot):
+    """Whether all items of one lot are in another one."""
+    return len([item for item in few if item in lot]) == len(few)

@@ -56,10 +56,14 @@ def is_side(net, thing):
     return is_lot(thing, net.many) and len(thing) > 0 and net.root not in thing
 
 
+def lots_of(places):
+    """The list, fewest first, of all lots of an ascending list of places but the empty one."""
+    return [lot for size in range(1, len(places) + 1) for lot in combinations(places, size)]
+
+
 def all_sides(net):
     """The list, fewest first, of all sides of the net."""
-    others = [place for place in range(net.many) if place != net.root]
-    return [side for size in range(1, net.many) for side in combinations(others, size)]
+    return lots_of([place for place in range(net.many) if place != net.root])
 
 
 def links_into(net, lot, places):

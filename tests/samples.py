@@ -84,3 +84,80 @@ def nets_and_lots():
 def line_net():
     """Root 0; 0 -> 1 twice, 1 -> 2 twice, 2 -> 3, and links back."""
     return Net(4, 0, ((0, 1), (0, 1), (1, 2), (1, 2), (2, 3), (3, 0), (2, 1), (3, 1)))
+
+
+def going_through_lots(many):
+    """All lots of numbers below many but the empty one, fewest first, found apart from the package."""
+    found = [tuple(place for place in range(many) if mask >> place & 1) for mask in range(1, 2 ** many)]
+    return sorted(found, key=lambda lot: (len(lot), lot))
+
+
+def subsets(items):
+    """All lots of some ascending items, the empty one among them."""
+    return [tuple(item for at, item in enumerate(items) if mask >> at & 1) for mask in range(2 ** len(items))]
+
+
+def grows_apart(net, begun, lot):
+    """Whether a lot of links enters each of its places once, none of the begun, all from these."""
+    ends = [net.links[link][1] for link in lot]
+    if len(set(ends)) != len(ends) or set(ends) & set(begun):
+        return False
+    heard = set(begun)
+    for _ in lot:
+        heard |= {net.links[link][1] for link in lot if net.links[link][0] in heard}
+    return heard == set(begun) | set(ends)
+
+
+def wood_apart(net, begun, lot):
+    return grows_apart(net, begun, lot) and len(begun) + len(lot) == net.many
+
+
+def tree_apart(net, lot):
+    return wood_apart(net, (net.root,), lot)
+
+
+def no_link_twice(lots):
+    links = [link for lot in lots for link in lot]
+    return len(set(links)) == len(links)
+
+
+def random_tree_pairs(chance, many, root):
+    """Links of a tree, in any order, none of which is numbered yet."""
+    heard = [root]
+    others = [place for place in range(many) if place != root]
+    chance.shuffle(others)
+    pairs = []
+    for place in others:
+        pairs.append((chance.choice(heard), place))
+        heard.append(place)
+    return pairs
+
+
+def net_of_trees(chance, many, trees, more):
+    """A net whose links are those of so many trees and some more, put in any order."""
+    root = chance.randrange(many)
+    pairs = [pair for _ in range(trees) for pair in random_tree_pairs(chance, many, root)]
+    for _ in range(more):
+        pairs.append(tuple(chance.sample(range(many), 2)))
+    chance.shuffle(pairs)
+    return Net(many, root, tuple(pairs))
+
+
+def rich_nets():
+    """Nets that hold packings of many trees, with up to ten places and sixty links."""
+    chance = random.Random(21)
+    nets = []
+    for many in range(2, 11):
+        most = min(12, 60 // (many - 1))
+        for trees in sorted({1, 2, most // 2, most}):
+            nets.append(net_of_trees(chance, many, trees, 0))
+            nets.append(net_of_trees(chance, many, trees, min(5, 60 - trees * (many - 1))))
+    for _ in range(40):
+        nets.append(net_of_trees(chance, chance.randrange(3, 6), chance.randrange(0, 4), chance.randrange(6)))
+    return nets
+
+
+def small_nets(chance, count, most_places, most_links):
+    """Nets that are small enough for a going through all lots of links."""
+    return [random_net(chance, chance.randrange(2, most_places + 1), chance.randrange(most_links + 1))
+            for _ in range(count)]

@@ -9,6 +9,12 @@ INTERFACE = {
              "bar(net, lot, many)", "is_bar(net, lot, many, thing)", "tight_sides(net, lot)"],
     "ways": ["ways(net, lot, place)", "are_ways(net, lot, place, thing)", "nearest_side(net, lot, place)",
              "farthest_side(net, lot, place)"],
+    "packing": ["is_tree(net, thing)", "is_packing(net, thing)", "is_grown(net, thing)", "packing(net, many)",
+                "packing_within(net, lot, many)", "heard_by(net, grown)", "safe_links(net, lot, many, grown)"],
+    "trees": ["depths(net, tree)", "way_in(net, tree, place)", "all_trees(net, lot)"],
+    "roots": ["woods(net, roots)", "continued(net, parts)", "are_woods(net, roots, thing)",
+              "is_continued(net, parts, thing)"],
+    "rates": ["rate(net, widths)", "loads(net, widths, many)", "are_loads(net, widths, many, thing)"],
 }
 
 
