@@ -1,9 +1,11 @@
 """Nets and things for the tests, and a going through all sides apart from the package."""
 
+import functools
 import random
 
 from sparetrees.errors import NoNet
 from sparetrees.nets import Net
+from sparetrees.ties import Web
 
 
 def deep(make, levels):
@@ -161,3 +163,93 @@ def small_nets(chance, count, most_places, most_links):
     """Nets that are small enough for a going through all lots of links."""
     return [random_net(chance, chance.randrange(2, most_places + 1), chance.randrange(most_links + 1))
             for _ in range(count)]
+
+
+def random_web(chance, many, ties):
+    pairs = [tuple(sorted(chance.sample(range(many), 2))) for _ in range(ties)]
+    return Web(many, tuple(pairs))
+
+
+def web_of_spanners(chance, many, spanners, more):
+    """A web whose ties are those of so many spanners and some more, put in any order."""
+    pairs = [tuple(sorted(pair)) for _ in range(spanners) for pair in random_tree_pairs(chance, many, 0)]
+    pairs += [tuple(sorted(chance.sample(range(many), 2))) for _ in range(more)]
+    chance.shuffle(pairs)
+    return Web(many, tuple(pairs))
+
+
+def webs():
+    """Webs of up to nine places and thirty ties, the same in every run."""
+    chance = random.Random(22)
+    found = []
+    for many in range(2, 10):
+        for ties in (0, 1, many - 1, 2 * many, 30):
+            found.append(random_web(chance, many, ties))
+        most = min(10, 30 // (many - 1))
+        for spanners in sorted({1, most // 2, most}):
+            found.append(web_of_spanners(chance, many, spanners, 0))
+            found.append(web_of_spanners(chance, many, spanners, min(4, 30 - spanners * (many - 1))))
+    return found
+
+
+def small_webs(chance, count, most_places, most_ties):
+    """Webs that are small enough for a going through all lots of ties."""
+    found = []
+    for _ in range(count):
+        many = chance.randrange(2, most_places + 1)
+        found.append(random_web(chance, many, chance.randrange(most_ties + 1)))
+    return found
+
+
+def pieces(web, lot):
+    """How many pieces a lot of ties leaves the places in."""
+    name = list(range(web.many))
+    for tie in lot:
+        one, other = (name[place] for place in web.ties[tie])
+        name = [one if held == other else held for held in name]
+    return len(set(name))
+
+
+def spans_apart(web, lot):
+    return len(lot) == web.many - 1 and pieces(web, lot) == 1
+
+
+@functools.lru_cache(maxsize=None)
+def partings_apart(many):
+    """All partings of so many places, in their order, by numbers of lots told place by place."""
+    rows = [[0]]
+    for _ in range(many - 1):
+        rows = [row + [number] for row in rows for number in range(max(row) + 2)]
+    partings = []
+    for row in rows:
+        lots = [tuple(place for place in range(many) if row[place] == number) for number in range(max(row) + 1)]
+        if len(lots) > 1:
+            partings.append(tuple(sorted(lots)))
+    return sorted(partings, key=lambda parting: (len(parting), parting))
+
+
+def crossed_apart(web, parting):
+    held = {place: lot for lot in parting for place in lot}
+    return tuple(tie for tie, (one, other) in enumerate(web.ties) if other not in held[one])
+
+
+def thin_partings(web, many):
+    return [parting for parting in partings_apart(web.many)
+            if len(crossed_apart(web, parting)) < many * (len(parting) - 1)]
+
+
+def parts_apart(web, many, lot):
+    """Whether a lot of ties can be put, tie by tie, into so many lots without rings, all choices tried."""
+    def go_on(rest, lots):
+        if not rest:
+            return True
+        for at, held in enumerate(lots):
+            if pieces(web, held + rest[:1]) == web.many - len(held) - 1:
+                if go_on(rest[1:], lots[:at] + (held + rest[:1],) + lots[at + 1:]):
+                    return True
+            # One empty lot is as good as another one.
+            if not held:
+                return False
+        return False
+
+    return go_on(tuple(lot), ((),) * many)

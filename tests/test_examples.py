@@ -1,11 +1,15 @@
 import unittest
 
+from sparetrees.further import greatest_lack, lacking
 from sparetrees.nets import Net, bar, entering, every_link, supply
 from sparetrees.packing import packing, safe_links
+from sparetrees.prices import can_part, cheapest, closed_by
 from sparetrees.rates import are_loads, rate
 from sparetrees.roots import continued
+from sparetrees.ties import Web, crossing, is_crossed, led_from, strength
 from sparetrees.trees import all_trees, depths
 from sparetrees.ways import farthest_side, nearest_side
+from sparetrees.words import mended, spread, told, wrong_words
 
 
 class ExamplesTest(unittest.TestCase):
@@ -13,25 +17,43 @@ class ExamplesTest(unittest.TestCase):
     def setUp(self):
         self.n = Net(3, 0, ((0, 1), (0, 2), (1, 2), (2, 1)))
         self.a = every_link(self.n)
+        self.w = Web(3, ((0, 1), (0, 1), (0, 2), (1, 2), (1, 2), (0, 2)))
 
     def test_e01(self):
         n, a = self.n, self.a
-        told = (supply(n, a), entering(n, a, (1, 2)), bar(n, (0, 1, 2), 2), nearest_side(n, a, 1),
-                farthest_side(n, a, 1))
-        self.assertEqual(told, (2, (0, 1), (1,), (1,), (1, 2)))
+        found = (supply(n, a), entering(n, a, (1, 2)), bar(n, (0, 1, 2), 2), nearest_side(n, a, 1),
+                 farthest_side(n, a, 1))
+        self.assertEqual(found, (2, (0, 1), (1,), (1,), (1, 2)))
 
     def test_e02(self):
         n, a = self.n, self.a
-        told = (sorted(packing(n, 2)), safe_links(n, a, 2, ()), all_trees(n, a), depths(n, (0, 2)))
-        self.assertEqual(told, ([(0, 2), (1, 3)], (0, 1), [(0, 1), (0, 2), (1, 3)], (0, 1, 2)))
+        found = (sorted(packing(n, 2)), safe_links(n, a, 2, ()), all_trees(n, a), depths(n, (0, 2)))
+        self.assertEqual(found, ([(0, 2), (1, 3)], (0, 1), [(0, 1), (0, 2), (1, 3)], (0, 1, 2)))
 
     def test_e03(self):
         self.assertEqual(continued(self.n, ((0,), ())), ((0, 2), (1, 3)))
 
     def test_e04(self):
         n = self.n
-        told = (rate(n, (2, 1, 1, 1)), are_loads(n, (2, 1, 1, 1), 2, ((1, (0, 1)), (1, (0, 2)))))
-        self.assertEqual(told, (2, True))
+        found = (rate(n, (2, 1, 1, 1)), are_loads(n, (2, 1, 1, 1), 2, ((1, (0, 1)), (1, (0, 2)))))
+        self.assertEqual(found, (2, True))
+
+    def test_e05(self):
+        w = self.w
+        found = (strength(w), crossing(w, ((0,), (1, 2))), led_from(w, ((0, 2),), 1),
+                 is_crossed(w, 4, ((0,), (1,), (2,))))
+        self.assertEqual(found, (3, (0, 1, 2, 5), ((1, 4),), True))
+
+    def test_e06(self):
+        n, w = self.n, self.w
+        found = (lacking(n, 3), greatest_lack(n, 3), cheapest(w, (5, 1, 2, 2, 9, 4), 1),
+                 closed_by(w, 1, (1, 2), 3), can_part(w, 2, (0, 1, 2, 3)))
+        self.assertEqual(found, (2, ((1,), (2,)), (1, 2), (1, 2, 3), True))
+
+    def test_e07_of_words(self):
+        found = (spread(5, (2, 3), 3), told(5, 2, {0: 2, 2: 3}), mended(5, 1, {0: 4, 1: 4, 2: 3}),
+                 wrong_words(5, 1, {0: 4, 1: 4, 2: 3}))
+        self.assertEqual(found, ((2, 0, 3), (2, 3), (4,), (2,)))
 
 
 if __name__ == "__main__":

@@ -15,6 +15,15 @@ INTERFACE = {
     "roots": ["woods(net, roots)", "continued(net, parts)", "are_woods(net, roots, thing)",
               "is_continued(net, parts, thing)"],
     "rates": ["rate(net, widths)", "loads(net, widths, many)", "are_loads(net, widths, many, thing)"],
+    "ties": ["Web(many, ties)", "is_spanning(web, thing)", "are_spanners(web, thing)",
+             "is_crossed(web, many, thing)", "crossing(web, parting)", "spanners(web, many)",
+             "led_from(web, spanners, place)", "net_of(web, place)", "strength(web)"],
+    "further": ["lacking(net, many)", "to_add(net, many)", "greatest_lack(net, many)",
+                "is_enough(net, many, thing)", "is_lack(net, thing)"],
+    "prices": ["can_part(web, many, lot)", "parted(web, many, lot)", "closed_by(web, many, lot, tie)",
+               "cheapest(web, prices, many)", "is_cheapest(web, prices, many, thing)"],
+    "words": ["spread(prime, frame, many)", "told(prime, size, heard)", "mended(prime, size, heard)",
+              "wrong_words(prime, size, heard)"],
 }
 
 
@@ -29,9 +38,9 @@ class InterfaceTest(unittest.TestCase):
                 self.assertEqual(thing.__module__, f"sparetrees.{file}")
                 self.assertEqual(name + str(inspect.signature(thing)), line)
 
-    def test_a_net_has_its_own_equality(self):
-        module = importlib.import_module("sparetrees.nets")
-        self.assertIn("__eq__", vars(module.Net))
+    def test_nets_and_webs_have_their_own_equality(self):
+        self.assertIn("__eq__", vars(importlib.import_module("sparetrees.nets").Net))
+        self.assertIn("__eq__", vars(importlib.import_module("sparetrees.ties").Web))
 
 
 if __name__ == "__main__":
