@@ -6,7 +6,7 @@ A polynomial is a list of as many values as it may need, that of the power 0 fir
 from itertools import combinations
 
 from sparetrees.checks import is_between, need_between
-from sparetrees.errors import NoFrame, NoHeard, NoPrime
+from sparetrees.errors import NoFrame, NoFrames, NoHeard, NoPrime
 
 LEAST_PRIME = 5
 GREATEST_PRIME = 251
@@ -27,6 +27,13 @@ def need_prime(thing):
         raise NoPrime()
 
 
+def need_prime_of(many, thing):
+    """Raise NoPrime unless a thing is a prime of which frames can have so many words."""
+    need_prime(thing)
+    if thing < many:
+        raise NoPrime()
+
+
 def is_frame(prime, thing):
     """Whether a thing is a frame: a tuple of 1 to 8 values."""
     if not isinstance(thing, tuple) or len(thing) < 1 or len(thing) > MOST_SIZE:
@@ -37,10 +44,29 @@ def is_frame(prime, thing):
     return True
 
 
+def is_frame_of(prime, size, thing):
+    """Whether a thing is a frame of a size."""
+    return is_frame(prime, thing) and len(thing) == size
+
+
 def need_frame(prime, thing):
     """Raise NoFrame unless a thing is a frame."""
     if not is_frame(prime, thing):
         raise NoFrame()
+
+
+def need_frames(prime, size, most, thing):
+    """Raise NoFrames unless a thing is a tuple of at most so many frames of a size."""
+    if not isinstance(thing, tuple) or len(thing) > most:
+        raise NoFrames()
+    for frame in thing:
+        if not is_frame_of(prime, size, frame):
+            raise NoFrames()
+
+
+def need_size(thing):
+    """Raise NoNumber unless a thing is a size of frames."""
+    need_between(thing, 1, MOST_SIZE)
 
 
 def most_words(prime):
@@ -109,7 +135,7 @@ def frame_with(prime, size, heard, most):
 def told(prime, size, heard):
     """The frame of this size of which all heard words are, None if they do not tell it."""
     need_prime(prime)
-    need_between(size, 1, MOST_SIZE)
+    need_size(size)
     need_heard(prime, heard)
     if len(heard) < size:
         return None
@@ -119,10 +145,24 @@ def told(prime, size, heard):
     return frame
 
 
+def told_row(prime, size, known):
+    """The tuple of the frames, from the first one on, that their heard words tell, as far as none lacks.
+
+    Known is a dict from numbers of frames to their heard words.
+    """
+    frames = []
+    while len(frames) in known:
+        frame = told(prime, size, known[len(frames)])
+        if frame is None:
+            break
+        frames.append(frame)
+    return tuple(frames)
+
+
 def mended(prime, size, heard):
     """The frame of this size of which most heard words are, None if they do not tell it."""
     need_prime(prime)
-    need_between(size, 1, MOST_SIZE)
+    need_size(size)
     need_heard(prime, heard)
     # The right ones are more than enough: so the words of some numbers, as many as the size, tell it.
     return frame_with(prime, size, heard, (len(heard) - size) // 2)

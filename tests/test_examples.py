@@ -1,11 +1,15 @@
 import unittest
 
 from sparetrees.further import greatest_lack, lacking
+from sparetrees.losses import hears, spent, told_at
 from sparetrees.nets import Net, bar, entering, every_link, supply
 from sparetrees.packing import packing, safe_links
+from sparetrees.plans import Plan, deepest, plan_for
 from sparetrees.prices import can_part, cheapest, closed_by
 from sparetrees.rates import are_loads, rate
 from sparetrees.roots import continued
+from sparetrees.stops import greatest_spare, stopped, stops
+from sparetrees.streams import Stream
 from sparetrees.ties import Web, crossing, is_crossed, led_from, strength
 from sparetrees.trees import all_trees, depths
 from sparetrees.ways import farthest_side, nearest_side
@@ -50,10 +54,27 @@ class ExamplesTest(unittest.TestCase):
                  closed_by(w, 1, (1, 2), 3), can_part(w, 2, (0, 1, 2, 3)))
         self.assertEqual(found, (2, ((1,), (2,)), (1, 2), (1, 2, 3), True))
 
-    def test_e07_of_words(self):
+    def test_e07(self):
+        p = plan_for(Net(2, 0, ((0, 1), (0, 1), (0, 1))), 2, 1)
         found = (spread(5, (2, 3), 3), told(5, 2, {0: 2, 2: 3}), mended(5, 1, {0: 4, 1: 4, 2: 3}),
-                 wrong_words(5, 1, {0: 4, 1: 4, 2: 3}))
-        self.assertEqual(found, ((2, 0, 3), (2, 3), (4,), (2,)))
+                 wrong_words(5, 1, {0: 4, 1: 4, 2: 3}), deepest(p), stopped(p, (0,)), stopped(p, (0, 2)),
+                 greatest_spare(p.of_net, 2))
+        self.assertEqual(found, ((2, 0, 3), (2, 3), (4,), (2,), 1, (), (1,), 1))
+
+    def test_e08(self):
+        n = Net(3, 0, ((0, 1), (1, 2), (0, 2), (2, 1)))
+        a = Plan(n, ((0, 1), (2, 3)), 1)
+        found = (told_at(a, (), 4), told_at(a, ((0,), (3,)), 0), hears(a, ((0,), ()), 0), spent(n, ((0,), (3,)), 2),
+                 stops(a, 1))
+        self.assertEqual(found, ((4, 5, 5), (0, None, 1), (((0, 0), (0, 1)), ((2, 1),), ((1, 1),)), 2,
+                                 [(0, 2), (0, 3)]))
+
+    def test_e09_of_streams(self):
+        n = Net(3, 0, ((0, 1), (1, 2), (0, 2), (2, 1)))
+        s = Stream(Plan(n, ((0, 1),), 1), 5, ((3,), (4,)))
+        found = (s.beat(()), s.beat((1,)), s.row(1), s.row(2), s.under_way())
+        self.assertEqual(found, ((((0, 0, 3),), ((0, 0, 3),), ()), (((1, 0, 4),), ((1, 0, 4),), ()), ((3,), (4,)), (),
+                                 1))
 
 
 if __name__ == "__main__":

@@ -24,6 +24,16 @@ INTERFACE = {
                "cheapest(web, prices, many)", "is_cheapest(web, prices, many, thing)"],
     "words": ["spread(prime, frame, many)", "told(prime, size, heard)", "mended(prime, size, heard)",
               "wrong_words(prime, size, heard)"],
+    "plans": ["Plan(net, trees, size)", "plan_for(net, size, spare)", "deepest(plan)"],
+    "losses": ["is_losses(net, thing)", "spent(net, losses, span)", "hears(plan, losses, number)",
+               "told_at(plan, losses, number)"],
+    "streams": ["Stream(plan, prime, frames)"],
+    "stops": ["stopped(plan, lost)", "stops(plan, place)", "least_stop(plan)", "greatest_spare(net, size)",
+              "harm(net, size)", "is_harm(net, size, thing)"],
+}
+METHODS = {
+    ("streams", "Stream"): ["beat(self, lost)", "beats(self)", "heard(self, place)", "row(self, place)",
+                            "under_way(self)", "room(self, place)", "copy(self)"],
 }
 
 
@@ -38,9 +48,17 @@ class InterfaceTest(unittest.TestCase):
                 self.assertEqual(thing.__module__, f"sparetrees.{file}")
                 self.assertEqual(name + str(inspect.signature(thing)), line)
 
-    def test_nets_and_webs_have_their_own_equality(self):
+    def test_methods_stand_in_the_class_itself(self):
+        for (file, name), lines in METHODS.items():
+            held = vars(getattr(importlib.import_module(f"sparetrees.{file}"), name))
+            for line in lines:
+                method = line.split("(")[0]
+                self.assertEqual(method + str(inspect.signature(held[method])), line)
+
+    def test_nets_webs_and_plans_have_their_own_equality(self):
         self.assertIn("__eq__", vars(importlib.import_module("sparetrees.nets").Net))
         self.assertIn("__eq__", vars(importlib.import_module("sparetrees.ties").Web))
+        self.assertIn("__eq__", vars(importlib.import_module("sparetrees.plans").Plan))
 
 
 if __name__ == "__main__":

@@ -50,6 +50,10 @@ def own_names(tree):
     return names
 
 
+def imported_names(tree):
+    return {alias.name for node in tree.body if isinstance(node, ast.ImportFrom) for alias in node.names}
+
+
 class LanguageTest(unittest.TestCase):
 
     def test_files(self):
@@ -85,8 +89,7 @@ class LanguageTest(unittest.TestCase):
                     begun = True
 
     def test_imports_name_the_file_that_defines(self):
-        defined = {f"sparetrees.{path.stem}": {node.name for node in tree.body if hasattr(node, "name")}
-                   for path, tree in trees()}
+        defined = {f"sparetrees.{path.stem}": own_names(tree) - imported_names(tree) for path, tree in trees()}
         for path, tree in trees():
             for node in ast.walk(tree):
                 if isinstance(node, ast.ImportFrom) and node.module.startswith("sparetrees"):
@@ -125,7 +128,8 @@ class LanguageTest(unittest.TestCase):
 
     def test_calls(self):
         for path, tree in trees():
-            own = own_names(tree)
+            # A function that was passed is called by its parameter's name.
+            own = own_names(tree) | {node.arg for node in ast.walk(tree) if isinstance(node, ast.arg)}
             for node in ast.walk(tree):
                 where = f"{path.name}:{getattr(node, 'lineno', 0)}"
                 if isinstance(node, ast.Call) and isinstance(node.func, ast.Name):
