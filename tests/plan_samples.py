@@ -204,3 +204,54 @@ class Timetable:
                         if self.came(number, tree, start) == len(self.lost):
                             found.append(way[-1])
         return found
+
+
+def random_packing(chance, net, lot, many):
+    """So many random trees within a lot of links that share none, None if it does not come off."""
+    rest, trees = list(lot), []
+    for _ in range(many):
+        heard, tree = {net.root}, []
+        while len(heard) < net.many:
+            free = [link for link in rest if net.links[link][0] in heard and net.links[link][1] not in heard]
+            if not free:
+                return None
+            tree.append(chance.choice(free))
+            rest.remove(tree[-1])
+            heard.add(net.links[tree[-1]][1])
+        trees.append(tuple(sorted(tree)))
+    return tuple(trees)
+
+
+def like_plans(chance, count, most_trees=4):
+    """So many plans that are like one another, over one row of links of which their nets have a beginning."""
+    many = chance.randrange(2, 7)
+    root = chance.randrange(many)
+    trees = chance.randrange(1, most_trees + 1)
+    pairs = [pair for _ in range(trees) for pair in random_tree_pairs(chance, many, root)]
+    pairs += [tuple(chance.sample(range(many), 2)) for _ in range(chance.randrange(3, 12))]
+    size = chance.randrange(1, trees + 1)
+    found = []
+    while len(found) < count:
+        net = Net(many, root, tuple(pairs[:chance.randrange(trees * (many - 1), len(pairs) + 1)]))
+        packed = random_packing(chance, net, range(len(net.links)), chance.randrange(size, trees + 1))
+        if packed is not None:
+            found.append(Plan(net, packed, size))
+    return found
+
+
+def words_of_links(plan, beats):
+    """All (link, beat) in which a link carries a word, a frame leaving in each of some beats."""
+    depths = depth_of_links(plan)
+    return [(link, beat + depths[link] - 1) for link in depths for beat in beats]
+
+
+def goes_together(elder, newer, rest):
+    """Whether no link has two words in one beat, frames going by the elder plan, then, behind a rest, by the newer."""
+    long = elder.of_net.many + newer.of_net.many
+    elder_words = words_of_links(elder, range(long))
+    newer_words = words_of_links(newer, range(long + rest, 2 * long + rest))
+    return not set(elder_words) & set(newer_words)
+
+
+def rest_apart(elder, newer):
+    return next(rest for rest in range(100) if goes_together(elder, newer, rest))

@@ -1,5 +1,6 @@
 import unittest
 
+from sparetrees.desk import tale
 from sparetrees.further import greatest_lack, lacking
 from sparetrees.losses import hears, spent, told_at
 from sparetrees.nets import Net, bar, entering, every_link, supply
@@ -12,6 +13,7 @@ from sparetrees.stops import greatest_spare, stopped, stops
 from sparetrees.streams import Stream
 from sparetrees.ties import Web, crossing, is_crossed, led_from, strength
 from sparetrees.trees import all_trees, depths
+from sparetrees.turning import least_rest
 from sparetrees.ways import farthest_side, nearest_side
 from sparetrees.words import mended, spread, told, wrong_words
 
@@ -69,12 +71,18 @@ class ExamplesTest(unittest.TestCase):
         self.assertEqual(found, ((4, 5, 5), (0, None, 1), (((0, 0), (0, 1)), ((2, 1),), ((1, 1),)), 2,
                                  [(0, 2), (0, 3)]))
 
-    def test_e09_of_streams(self):
+    def test_e09(self):
         n = Net(3, 0, ((0, 1), (1, 2), (0, 2), (2, 1)))
-        s = Stream(Plan(n, ((0, 1),), 1), 5, ((3,), (4,)))
-        found = (s.beat(()), s.beat((1,)), s.row(1), s.row(2), s.under_way())
-        self.assertEqual(found, ((((0, 0, 3),), ((0, 0, 3),), ()), (((1, 0, 4),), ((1, 0, 4),), ()), ((3,), (4,)), (),
-                                 1))
+        a = Plan(n, ((0, 1),), 1)
+        b = Plan(n, ((0, 2),), 1)
+        s = Stream(a, 5, ((3,), (4,)))
+        found = (least_rest(a, b), s.beat(()), s.beat((1,)), s.row(1), s.row(2), s.under_way())
+        self.assertEqual(found, (0, (((0, 0, 3),), ((0, 0, 3),), ()), (((1, 0, 4),), ((1, 0, 4),), ()),
+                                 ((3,), (4,)), (), 1))
+
+    def test_e10(self):
+        lines = ["link 0 1", "begin", "link 0 1", "begin", "beat 3 0", "row 1", "harm", "row 2"]
+        self.assertEqual(tale(2, 0, 1, 1, 5, lines), ["0", "barred 1", "1", "ok", "0", "3", "1 | 0 1", "(NoPlace)"])
 
 
 if __name__ == "__main__":

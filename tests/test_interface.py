@@ -30,10 +30,22 @@ INTERFACE = {
     "streams": ["Stream(plan, prime, frames)"],
     "stops": ["stopped(plan, lost)", "stops(plan, place)", "least_stop(plan)", "greatest_spare(net, size)",
               "harm(net, size)", "is_harm(net, size, thing)"],
+    "turning": ["least_rest(elder, newer)", "clash(elder, newer, rest)", "Turned(plan, prime)"],
+    "strangers": ["led(net, size, prime, frames, beats, losses, forwarder, teller)",
+                  "tree_forwarder(plan, prime)", "tree_teller(plan, prime)",
+                  "too_few(prime, size, links, frames, beats)"],
+    "runs": ["Runs(net, size, spare, prime)"],
+    "desk": ["Desk(many, root, size, spare, prime)", "tale(many, root, size, spare, prime, lines)"],
 }
 METHODS = {
     ("streams", "Stream"): ["beat(self, lost)", "beats(self)", "heard(self, place)", "row(self, place)",
                             "under_way(self)", "room(self, place)", "copy(self)"],
+    ("turning", "Turned"): ["beat(self, frame, lost)", "turn(self, newer)", "rests(self)", "beats(self)",
+                            "heard(self, place)", "row(self, place)", "under_way(self)", "plan(self)", "copy(self)"],
+    ("runs", "Runs"): ["beat(self, frame, lost)", "drop(self, link)", "add(self, pair)", "renew(self)",
+                       "there(self)", "plan(self)", "row(self, place)", "rests(self)", "beats(self)", "book(self)",
+                       "copy(self)"],
+    ("desk", "Desk"): ["tell(self, line)"],
 }
 
 
