@@ -1,20 +1,20 @@
 """Frames on their ways: what all places have heard of them, and what is carried on, beat by beat."""
 
 from sparetrees.plans import hops
-from sparetrees.words import told_row, word_of
+from sparetrees.words import word_of
 
 
 class Flow:
     """Frames that leave, numbered as they do, each by the newest plan then, all plans being like.
 
-    Of each place it keeps the dict from numbers of frames to the dicts, from trees to words, of what
+    Of each place it knows the dict from numbers of frames to the dicts, from trees to words, of what
     was heard there. Of each frame that may be under way it keeps its number, its beat and its hops.
     """
 
     def __init__(self, plan, prime):
         self.prime = prime
         self.done = 0
-        self.count_sent = 0
+        self.sent = []
         self.under = []
         self.known = [{} for _ in range(plan.of_net.many)]
         self.go_by(plan)
@@ -50,15 +50,15 @@ class Flow:
 
     def leave(self, frame):
         """Let a frame leave in the next beat, and tell the triples (frame, tree, word) of its words."""
-        number = self.count_sent
+        number = len(self.sent)
         root = self.by_plan.of_net.root
         triples = []
         for tree in range(len(self.by_plan.by_trees)):
             word = word_of(self.prime, frame, tree)
             self.hear(root, number, tree, word)
             triples.append((number, tree, word))
+        self.sent.append(frame)
         self.under.append((number, self.done, self.by_hops))
-        self.count_sent += 1
         return triples
 
     def carry(self, frame, lost):
@@ -75,7 +75,7 @@ class Flow:
                 fresh[end].append((number, tree, word))
         self.done += 1
         # A way has fewer links than there are places: so what left long ago has come where it can.
-        self.under = [sent for sent in self.under if self.done - sent[1] < len(self.known)]
+        self.under = [gone for gone in self.under if self.done - gone[1] < len(self.known)]
         return tuple([tuple(sorted(triples)) for triples in fresh])
 
     def heard_at(self, place):
@@ -83,20 +83,27 @@ class Flow:
         known = self.known[place]
         return {number: {tree: known[number][tree] for tree in sorted(known[number])} for number in sorted(known)}
 
+    def is_told(self, place, number):
+        """Whether enough words of a frame were heard at a place to tell it."""
+        return len(self.known[place].get(number, {})) >= self.by_plan.of_size
+
     def row_at(self, place):
         """The tuple of the frames, from the first one on, that are told at a place, as far as none lacks."""
-        return told_row(self.prime, self.by_plan.of_size, self.known[place])
+        count = 0
+        while self.is_told(place, count):
+            count += 1
+        # Any as many words of a frame as its size tell it and no other one.
+        return tuple(self.sent[:count])
 
     def untold_at(self, place):
         """How many frames were heard of at a place by fewer words than tell them."""
-        known = self.known[place]
-        return len([number for number in known if len(known[number]) < self.by_plan.of_size])
+        return len([number for number in self.known[place] if not self.is_told(place, number)])
 
     def copied(self):
         """A Flow that goes on apart."""
         other = Flow(self.by_plan, self.prime)
         other.done = self.done
-        other.count_sent = self.count_sent
+        other.sent = list(self.sent)
         other.under = list(self.under)
         other.known = [self.heard_at(place) for place in range(len(self.known))]
         return other

@@ -6,7 +6,6 @@ from sparetrees.nets import MOST_LINKS, Net, every_link, need_lot
 from sparetrees.packing import packing_within
 from sparetrees.plans import Plan, plan_for
 from sparetrees.turning import Turned
-from sparetrees.words import need_prime_of
 
 
 def with_pair(net, thing):
@@ -22,8 +21,7 @@ class Runs:
     """A Turned stream by plans with so many spare trees, of the links that are there."""
 
     def __init__(self, net, size, spare, prime):
-        plan = plan_for(net, size, spare)
-        need_prime_of(size + spare, prime)
+        self.stream = Turned(plan_for(net, size, spare), prime)
         # The net of all links that ever were, so that their numbers stay what they are.
         self.of_net = net
         self.of_size = size
@@ -31,7 +29,6 @@ class Runs:
         self.of_prime = prime
         self.dropped = []
         self.notes = []
-        self.stream = Turned(plan, prime)
 
     def note(self, word, ahead, passed):
         """Put into the book what was done, and how many beats ahead of it."""

@@ -4,7 +4,7 @@ from sparetrees.checks import is_between, need_between
 from sparetrees.losses import lost_in, need_losses
 from sparetrees.nets import need_net
 from sparetrees.plans import hops, need_plan
-from sparetrees.words import is_frame_of, need_frames, need_prime, need_prime_of, need_size, told_row, word_of
+from sparetrees.words import is_frame_of, need_frames, need_prime, need_prime_of, need_size, told, word_of
 
 MOST_FRAMES = 60
 MOST_BEATS = 100
@@ -103,26 +103,40 @@ def led(net, size, prime, frames, beats, losses, forwarder, teller):
     return stage.verdict()
 
 
-def words_by_tree(prime, ways, place, heard):
-    """The dict, from trees to words, of what a place heard by the hops of the trees, or of a frame at the root."""
+def words_by_tree(prime, ways, heard):
+    """The dict, from trees to words, of what was heard by the hops of the trees, or of a frame at the root."""
     words = {}
     for beat, link, word in heard:
         for tree, depth, by_link, start, end in ways:
             if link == FRAME_LINK:
                 words[tree] = word_of(prime, word, tree)
-            elif link == by_link and end == place:
+            elif link == by_link:
                 words[tree] = word
     return words
 
 
-def words_by_frame(ways, place, heard):
-    """The dict, from numbers of frames to the dicts from trees to words, of what a place heard by the hops."""
+def words_by_frame(ways, heard):
+    """The dict, from numbers of frames to the dicts from trees to words, of what was heard by the hops."""
     known = {}
     for beat, link, word in heard:
         for tree, depth, by_link, start, end in ways:
-            if link == by_link and end == place:
-                known.setdefault(beat - depth, {})[tree] = word
+            if link == by_link:
+                number = beat - depth
+                if number not in known:
+                    known[number] = {}
+                known[number][tree] = word
     return known
+
+
+def told_row(prime, size, known):
+    """The tuple of the frames, from the first one on, that their heard words tell, as far as none lacks."""
+    frames = []
+    while len(frames) in known:
+        frame = told(prime, size, known[len(frames)])
+        if frame is None:
+            break
+        frames.append(frame)
+    return tuple(frames)
 
 
 def tree_forwarder(plan, prime):
@@ -133,7 +147,7 @@ def tree_forwarder(plan, prime):
 
     def forwarder(place, beat, heard):
         """What a place sends in a beat."""
-        words = words_by_tree(prime, ways, place, [triple for triple in heard if triple[0] == beat])
+        words = words_by_tree(prime, ways, [triple for triple in heard if triple[0] == beat])
         return {link: words[tree] for tree, depth, link, start, end in ways if start == place and tree in words}
 
     return forwarder
@@ -147,7 +161,7 @@ def tree_teller(plan, prime):
 
     def teller(place, heard):
         """The frames that a place holds for told."""
-        return told_row(prime, plan.of_size, words_by_frame(ways, place, heard))
+        return told_row(prime, plan.of_size, words_by_frame(ways, heard))
 
     return teller
 

@@ -145,20 +145,6 @@ def told(prime, size, heard):
     return frame
 
 
-def told_row(prime, size, known):
-    """The tuple of the frames, from the first one on, that their heard words tell, as far as none lacks.
-
-    Known is a dict from numbers of frames to their heard words.
-    """
-    frames = []
-    while len(frames) in known:
-        frame = told(prime, size, known[len(frames)])
-        if frame is None:
-            break
-        frames.append(frame)
-    return tuple(frames)
-
-
 def mended(prime, size, heard):
     """The frame of this size of which most heard words are, None if they do not tell it."""
     need_prime(prime)

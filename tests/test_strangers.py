@@ -242,6 +242,12 @@ class VerdictTest(unittest.TestCase):
         self.assertEqual(led(SMALL, 1, 5, (), 5, (), bad_from(5), wrong_from(9)), ("wrong", 4, 2))
         self.assertEqual(led(SMALL, 1, 5, (), 5, (), bad_from(5), wrong_from(10)), ("heard",))
 
+    def test_links_are_not_counted_from_the_end(self):
+        # The last link, and the one ahead of it, leave place 2.
+        for words in ({-1: 1}, {-2: 1}, {5: 1}, {4: 1, -1: 1}):
+            self.assertEqual(led(SMALL, 1, 5, (), 2, (), lambda place, beat, heard, words=words:
+                                 words if place == 2 else {}, nothing_told), ("bad", 0, 2))
+
     def test_a_link_at_the_root_is_no_flag(self):
         # A flag for a link or a value is bad at the root, too.
         for words in ({False: 1}, {0: True}, {True: 1}):

@@ -63,6 +63,7 @@ class TooFewTest(unittest.TestCase):
             self.assertRaises(NoPrime, too_few, thing, "no size", "no links", "no frames", "no beats")
         for thing in odd_things() + [0, 9, -1, True, "1", 10 ** 59]:
             self.assertRaises(NoNumber, too_few, 5, thing, "no links", "no frames", "no beats")
+            self.assertRaises(NoNumber, too_few, 5, thing, 1, 1, 1)
         for at, most in ((2, 60), (3, 400), (4, 400)):
             for thing in odd_things() + [-1, most + 1, True, False, "1", 10 ** 59]:
                 args = [5, 1, 1, 1, 1]

@@ -269,6 +269,20 @@ class RestsTest(unittest.TestCase):
         turned.turn(newer)
         self.assertEqual(turned.rests(), 7)
 
+    def test_a_copy_rests_as_long(self):
+        elder, newer = self.far_plans()
+        turned = Turned(elder, 5)
+        turned.beat((1,), ())
+        before = turned.copy()
+        turned.turn(newer)
+        other = turned.copy()
+        self.assertEqual((turned.rests(), other.rests(), before.rests()), (7, 7, 0))
+        turned.beat(None, ())
+        self.assertEqual((turned.rests(), other.rests()), (6, 7))
+        # The plan by which a frame went counts for the copy, too.
+        before.turn(newer)
+        self.assertEqual(before.rests(), 7)
+
     def test_a_frame_lets_no_rest_begin(self):
         turned = Turned(deep_plan(), 5)
         for number in range(6):

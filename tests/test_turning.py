@@ -105,6 +105,15 @@ class ClashTest(unittest.TestCase):
         self.assertEqual((clash(elder, newest, 0), clash(elder, newest, 1), clash(elder, newest, 2)),
                          ((3, 4, 2), (3, 4, 2), None))
 
+    def test_the_least_link_is_not_the_first_of_the_way(self):
+        net = Net(5, 0, ((3, 4), (2, 3), (1, 2), (0, 1), (0, 2), (3, 4), (2, 3), (1, 2), (0, 1)))
+        elder, newer = sized_plan(net, [(0, 1, 2, 3)], 1), sized_plan(net, [(0, 1, 3, 4)], 1)
+        self.assertEqual((clash(elder, newer, 0), clash(elder, newer, 1)), ((0, 4, 3), None))
+        # Nor is it that of the first tree.
+        elder = sized_plan(net, [(5, 6, 7, 8), (0, 1, 2, 3)], 1)
+        newer = sized_plan(net, [(0, 4, 6, 8)], 1)
+        self.assertEqual(clash(elder, newer, 0), (0, 4, 3))
+
     def test_rests(self):
         plan = line_plan(3, 1, 1)
         for thing in odd_things() + [-1, 101, 10 ** 59, True, "0", (0,)]:
